@@ -166,6 +166,7 @@ func TestOrder(t *testing.T) {
 	// A component stands by its least node, and not by the one that others lead to first.
 	wantComps(t, [][]int{{7}, {}, {3}, {8}, {}, {}, {}, {}, {2}}, []int{1}, []int{2, 3, 8}, []int{4}, []int{5}, []int{6}, []int{7}, []int{0})
 	wantComps(t, [][]int{{4}, {3}, {}, {1}, {3, 5}, {4}}, []int{1, 3}, []int{2}, []int{4, 5}, []int{0})
+	wantComps(t, [][]int{{4}, {}, {4}, {}, {2}}, []int{1}, []int{2, 4}, []int{0}, []int{3})
 	wantComps(t, [][]int{{5}, {2}, {1}, {4}, {3}, {4}}, []int{1, 2}, []int{3, 4}, []int{5}, []int{0})
 	wantComps(t, [][]int{{5}, {4}, {3}, {2}, {1}, {6}, {5}}, []int{1, 4}, []int{2, 3}, []int{5, 6}, []int{0})
 }
